@@ -138,11 +138,12 @@ func (m *model) step() api.Errno {
 		if !m.h.Has(self) || m.of(self, 7) || m.of(self, 5) || i.A >= len(f) {
 			return m.stop(api.ErrResume)
 		}
-		if i.Op == 4 {
-			push(f[i.A])
-		} else {
+		if i.Op == 5 {
+			m.apply(x, method, depth, c)
 			m.set(self, i.A, popped[0])
+			return api.OK
 		}
+		push(f[i.A])
 	case 6:
 		push(self)
 	case 7:

@@ -218,7 +218,10 @@ func (m *maker) odd(pops int) int {
 	return -1
 }
 
-// populate lets a world's classes understand selectors by what is made; it answers contexts to begin with.
+// ownFields is how many fields any context has of a method that is made.
+const ownFields = 9
+
+// populate lets a world's classes understand selectors by what is made; it answers contexts to begin with, some of which are their own receivers.
 func populate(t *testing.T, w *world, d *dice, starts int) []api.Word {
 	t.Helper()
 	m := newMaker(t, w, d)
@@ -245,8 +248,16 @@ func populate(t *testing.T, w *world, d *dice, starts int) []api.Word {
 	for range starts {
 		self := d.word(words(w.instance, w.instance, w.filled, w.list))
 		m.fields, _ = w.h.Size(self)
+		own := d.below(4) == 0
+		if own {
+			m.fields = ownFields
+		}
 		m.wild = d.below(3) == 0
-		l = append(l, w.start(t, self, m.method(t, 0)))
+		x := w.start(t, self, m.method(t, 0))
+		if own {
+			store(t, w.h, x, 4, x)
+		}
+		l = append(l, x)
 	}
 	return l
 }

@@ -165,20 +165,108 @@ func TestStepFieldsOfWhatHasNone(t *testing.T) {
 	}
 }
 
-// A context that is its own receiver: the instruction reads what was there before it, and where the context goes on is laid in it last.
-func TestStepOnItself(t *testing.T) {
+// own is the context of a padded method that is its own receiver.
+func (w *world) own(t *testing.T, i api.Instr, l ...api.Word) api.Word {
+	t.Helper()
+	x := w.padded(t, i, w.instance, nil, l...)
+	store(t, w.h, x, 4, x)
+	return x
+}
+
+// A context that is its own receiver: a field that is pushed is what it was before the instruction.
+func TestStepPushesOwnField(t *testing.T) {
 	w := newWorld(t, 8192)
-	for k := range 6 {
-		x := w.padded(t, in(api.OpPushField, k), w.instance, nil, num(1), num(2), num(3))
-		store(t, w.h, x, 4, x)
+	for k := range 14 {
+		x := w.own(t, in(api.OpPushField, k), num(1), num(2), num(3), num(4))
 		v := fetch(t, w.h, x, k)
 		s := interp.State{Active: x}
-		becomes(t, "push", w.h, nil, s, s, api.OK, pictureOf(w.h).settled(x, w.s[0], 3, 4, num(1), num(2), num(3), v))
-		y := w.padded(t, in(api.OpPopField, k), w.instance, nil, num(1), num(2), num(3))
-		store(t, w.h, y, 4, y)
-		s = interp.State{Active: y}
-		becomes(t, "pop", w.h, nil, s, s, api.OK, pictureOf(w.h).with(y, k, num(3)).settled(y, w.s[0], 3, 4, num(1), num(2)))
+		becomes(t, fmt.Sprint("own field ", k), w.h, nil, s, s, api.OK, pictureOf(w.h).settled(x, w.s[0], 4, 5, num(1), num(2), num(3), num(4), v))
 	}
+}
+
+// A word is popped, and the pc goes on, before the word is stored: what is stored in the context itself remains, wherever that is.
+func TestStepPopsIntoOwnField(t *testing.T) {
+	w := newWorld(t, 32768)
+	for depth := 1; depth <= 6; depth++ {
+		l := words(num(1), num(2), num(3), num(4), num(5), num(6), num(7))[:1+depth]
+		for k := range 14 {
+			for _, v := range words(num(1000), num(0), w.s[0], w.list) {
+				x := w.own(t, in(api.OpPopField, k), append(slices.Clone(l), v)...)
+				s := interp.State{Active: x, Out: []int{4}}
+				after := pictureOf(w.h).settled(x, w.s[0], depth+2, depth+3, l...).with(x, k, v)
+				becomes(t, fmt.Sprint("own field ", k, " from depth ", depth), w.h, nil, s, s, api.OK, after)
+				w.fit(t, "own field")
+			}
+		}
+		x := w.own(t, in(api.OpPopField, 14), append(slices.Clone(l), num(9))...)
+		stops(t, "behind the last one", w.h, nil, interp.State{Active: x}, api.ErrResume)
+	}
+}
+
+// popsOwn is a context that is its own receiver, behind two steps of a method that begins with a push.
+func (w *world) popsOwn(t *testing.T, l ...api.Instr) interp.State {
+	t.Helper()
+	x := w.start(t, w.instance, api.Method{Stack: 2, Code: l})
+	store(t, w.h, x, 4, x)
+	return run(t, w.h, nil, interp.State{Active: x}, 2)
+}
+
+// What a context stored where it says how it goes on decides how it goes on.
+func TestStepAfterPopIntoOwnField(t *testing.T) {
+	w := newWorld(t, 8192)
+	end := body(in(api.OpPushSelf), in(api.OpDrop), in(api.OpReturnSelf))
+	goes := func(pc, k int) interp.State {
+		return w.popsOwn(t, append(body(in(api.OpPushInt, 2048+pc), in(api.OpPopField, k)), end...)...)
+	}
+	s := goes(4, 1)
+	x := s.Active
+	becomes(t, "the pc becomes 4", w.h, nil, s, interp.State{Active: x, Done: true, Result: x}, api.OK, pictureOf(w.h).with(x, 0, w.s[0], w.s[0]))
+	s = goes(2, 1)
+	becomes(t, "the pc becomes 2", w.h, nil, s, s, api.OK, pictureOf(w.h).settled(s.Active, w.s[0], 0, 3, s.Active))
+	// At 3 the stack has a word, and the context holds none.
+	for _, pc := range []int{-1, 3, 5, 2047} {
+		s = goes(pc, 1)
+		stops(t, fmt.Sprint("the pc becomes ", pc), w.h, nil, s, api.ErrResume)
+	}
+	for n := range 3 {
+		if s = goes(n, 2); n == 0 {
+			becomes(t, "it holds 0 words", w.h, nil, s, s, api.OK, pictureOf(w.h).settled(s.Active, w.s[0], 0, 3, s.Active))
+			continue
+		}
+		stops(t, fmt.Sprint("it holds words: ", n), w.h, nil, s, api.ErrResume)
+	}
+	stops(t, "its method is 2", w.h, nil, goes(2, 3), api.ErrResume)
+	// A sender that is no context, and a receiver that is a number, come out when it returns.
+	s = run(t, w.h, nil, goes(2, 0), 2)
+	becomes(t, "its sender is 2", w.h, nil, s, interp.State{Active: s.Active, E: api.ErrResume}, api.OK, pictureOf(w.h).with(s.Active, 0, w.s[0], w.s[0]))
+	s = run(t, w.h, nil, goes(2, 4), 3)
+	if !s.Done || s.Result != num(2) {
+		t.Errorf("its receiver is 2: %v", s)
+	}
+}
+
+// A word that is stored in the field from which it was popped, or in one above or below it.
+func TestStepPopsIntoOwnTop(t *testing.T) {
+	w := newWorld(t, 8192)
+	s := w.popsOwn(t, in(api.OpPushInt, 2055), in(api.OpPopField, 6), in(api.OpReturnSelf))
+	if l := (&model{h: w.h}).fields(s.Active); !slices.Equal(l[1:3], words(num(2), num(0))) || !slices.Equal(l[6:], words(num(7), w.s[0])) {
+		t.Errorf("the top: %v", l)
+	}
+	// What is there is pushed over, and popped again, as any word.
+	s = w.popsOwn(t, in(api.OpPushInt, 2055), in(api.OpPopField, 7), in(api.OpPushInt, 2050), in(api.OpDup), in(api.OpReturn))
+	becomes(t, "a push below", w.h, nil, s, s, api.OK, pictureOf(w.h).settled(s.Active, w.s[0], 0, 3, num(2)))
+	s = run(t, w.h, nil, s, 1)
+	if l := (&model{h: w.h}).fields(s.Active); !slices.Equal(l[1:3], words(num(4), num(2))) || !slices.Equal(l[6:], words(num(2), num(2))) {
+		t.Errorf("pushed over: %v", l)
+	}
+}
+
+// Where the receiver is the Root, what was popped leaves the Nil that was there, even if the word becomes another Nil.
+func TestStepPopsIntoRoot(t *testing.T) {
+	w := newWorld(t, 8192)
+	x := w.padded(t, in(api.OpPopField, 0), w.root, nil, num(1), num(2), num(3), w.list)
+	s := interp.State{Active: x}
+	becomes(t, "another Nil", w.h, nil, s, s, api.OK, pictureOf(w.h).settled(x, w.s[0], 4, 5, num(1), num(2), num(3)).with(w.root, 0, w.list))
 }
 
 func TestStepArith(t *testing.T) {

@@ -14,16 +14,23 @@ const pushIntBias = 2048
 // firstCompare is the first kind of Arith that holds numbers against one another.
 const firstCompare = 5
 
-// turn is the execution of one instruction. What it pops and pushes is only noted, and laid in the context when nothing can fail any more.
+// turn is the execution of one instruction. What it pops, pushes and assigns to fields is only noted, and done when nothing can fail any more.
 type turn struct {
 	place
-	h       *heap.Heap
-	c       *cache.Cache
-	s       State
-	context api.Word
-	next    int        // where the context goes on
-	kept    int        // how many words of the stack were not popped
-	pushed  []api.Word // those above them
+	h        *heap.Heap
+	c        *cache.Cache
+	s        State
+	context  api.Word
+	next     int          // where the context goes on
+	kept     int          // how many words of the stack were not popped
+	pushed   []api.Word   // those above them
+	assigned []assignment // what was popped to be stored elsewhere
+}
+
+// assignment is a word that a field is to hold.
+type assignment struct {
+	into field
+	v    api.Word
 }
 
 // begin is the turn of the instruction at which the active context is.
@@ -108,12 +115,17 @@ func (t *turn) executePop(i api.Instr) {
 	v := t.pop()
 	switch i.Op {
 	case api.OpPopTemp:
-		t.h.Store(t.context, wordsAt+i.A, v)
+		t.assign(field{t.context, wordsAt + i.A}, v)
 	case api.OpPopField:
-		t.store(t.receiverField(i.A), v)
+		t.assign(t.receiverField(i.A), v)
 	case api.OpPopOuter:
-		t.store(t.outerTemp(i.A, i.B), v)
+		t.assign(t.outerTemp(i.A, i.B), v)
 	}
+}
+
+// assign lets a field hold a word once what was popped is settled.
+func (t *turn) assign(into field, v api.Word) {
+	t.assigned = append(t.assigned, assignment{into, v})
 }
 
 // arith reckons with two words, or sends where they are no integers or the result is none.
@@ -162,7 +174,7 @@ func (t *turn) leave(context, v api.Word) State {
 	return Deliver(t.h, t.s, sender, v)
 }
 
-// settle lays in the context what was popped and pushed, and where it goes on.
+// settle lays in the context what was popped and pushed, and where it goes on, and then in fields what was assigned to them.
 func (t *turn) settle() {
 	held := t.method.Temps + t.kept
 	for _, v := range t.pushed {
@@ -174,6 +186,10 @@ func (t *turn) settle() {
 	// Nothing may be kept alive by what was popped.
 	for k := held; k < t.method.Temps+t.depth; k++ {
 		t.h.Store(t.context, wordsAt+k, t.special(api.Nil))
+	}
+	// The field may be one of those above: what a program stores there remains.
+	for _, a := range t.assigned {
+		t.store(a.into, a.v)
 	}
 }
 
